@@ -2,7 +2,8 @@
 
 from rankedroom.bounds import Bounds
 from rankedroom.bounds import RANKS
-from rankedroom.things import strength
+from rankedroom.things import strongest_first
+from rankedroom.things import without
 
 
 class State:
@@ -12,6 +13,14 @@ class State:
         self.bounds = Bounds(20, [200] * RANKS, 200)
         self.moment = 0
         self.things = []
+
+
+def start_anew(state):
+    """Make all as before the first call."""
+    fresh = State()
+    state.bounds = fresh.bounds
+    state.moment = fresh.moment
+    state.things = fresh.things
 
 
 def find_thing(state, number):
@@ -24,10 +33,9 @@ def find_thing(state, number):
 
 def put_in(state, thing):
     """Put thing into the store, at its place by strength."""
-    state.things = sorted(state.things + [thing], key=strength)
+    state.things = strongest_first(state.things + [thing])
 
 
 def let_go(state, gone):
     """Let these things go out of the store."""
-    numbers = [thing.number for thing in gone]
-    state.things = [thing for thing in state.things if thing.number not in numbers]
+    state.things = without(state.things, gone)

@@ -1,7 +1,12 @@
 """Whether something is taken into a store, and what goes for it."""
 
 from rankedroom.bounds import fit
+from rankedroom.things import Thing
 from rankedroom.things import is_stronger
+
+MOST_SIZE = 50
+# One more than any thing's number: of its rank and end it is the weakest.
+NUMBER_OF_NONE = 1000
 
 
 def may_go(held, thing):
@@ -31,3 +36,13 @@ def gone_for(bounds, held, thing):
         else:
             gone.append(other)
     return gone
+
+
+def greatest_size(bounds, held, rank, end, sender):
+    """The greatest size with which such a thing is taken; 0 if there is none."""
+    # Size does not count for strength, so the same things may not go for it, whatever its size.
+    staying = may_not_go(held, Thing([NUMBER_OF_NONE, MOST_SIZE, rank, end, sender, 0]))
+    for size in range(MOST_SIZE, 0, -1):
+        if fit(bounds, staying + [Thing([NUMBER_OF_NONE, size, rank, end, sender, 0])]):
+            return size
+    return 0

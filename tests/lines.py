@@ -28,7 +28,21 @@ def thing(number, size=1, rank=0, end=100, sender=0, worth=0):
     return (number, size, rank, end, sender, worth)
 
 
+def comer(moment, *given, **named):
+    return (moment,) + thing(*given, **named)
+
+
+def row(*things):
+    """Things as they lie in a call's row."""
+    return [number for one in things for number in one]
+
+
 THING_RANGES = [(0, 999), (1, 50), (0, 9), (1, 100000), (0, 7), (0, 1000)]
+# The calls on a list of things: how many numbers a thing has, and how many things there may be.
+LISTS = {"kept": (6, 20), "order": (6, 5), "greedy": (6, 20), "best": (6, 10), "online": (7, 10), "known": (7, 10),
+         "ends": (6, 5)}
+# Of these there are at most 20 in a line.
+RARE = ("best", "known", "cheapest", "order", "ends")
 # Forty things, with room left.
 FULL = [call("room", 200)] + [call("arrive", *thing(k, 1, k % 3, 10 + k)) for k in range(40)]
 

@@ -32,6 +32,16 @@ def trees():
     return [(path.name, ast.parse(path.read_text())) for path in files()]
 
 
+def with_parents(tree):
+    """Every node of the tree with the node around it."""
+    return [(child, node) for node in ast.walk(tree) for child in ast.iter_child_nodes(node)]
+
+
+def called(node):
+    """The plain name that is called, or None."""
+    return node.func.id if isinstance(node, ast.Call) and isinstance(node.func, ast.Name) else None
+
+
 def is_plain(node, defs):
     """Whether a value at a file's top is plain: numbers, texts, and lists, tuples, dicts of these or of defs."""
     if isinstance(node, (ast.Tuple, ast.List)):
@@ -129,4 +139,106 @@ class Language(unittest.TestCase):
                     self.assertNotIn(node.arg, dir(builtins), at)
                     self.assertFalse(node.arg.startswith("_"), at)
                 if isinstance(node, ast.Call) and isinstance(node.func, ast.Attribute):
-                    self.assertIn(node.func.attr, OWN_METHODS, at)
+                    if node.func.attr != "__init__":
+                        self.assertIn(node.func.attr, OWN_METHODS, at)
+
+    def test_no_local_hides_another_name(self):
+        for name, tree in trees():
+            taken = set(dir(builtins))
+            for node in tree.body:
+                if isinstance(node, ast.ImportFrom):
+                    taken |= {one.name for one in node.names}
+                elif isinstance(node, (ast.FunctionDef, ast.ClassDef)):
+                    taken.add(node.name)
+            for node in ast.walk(tree):
+                if isinstance(node, (ast.FunctionDef, ast.Lambda)):
+                    for one in ast.walk(node):
+                        if isinstance(one, ast.Name) and isinstance(one.ctx, ast.Store):
+                            self.assertNotIn(one.id, taken, (name, one.lineno))
+                        if isinstance(one, ast.arg):
+                            self.assertNotIn(one.arg, taken, (name, one.lineno))
+
+    def test_lists_and_dicts_of_the_top_are_only_read(self):
+        for name, tree in trees():
+            tops = {node.targets[0].id: node.value for node in tree.body if isinstance(node, ast.Assign)}
+            for value in tops.values():
+                inner = [node for node in ast.walk(value) if isinstance(node, (ast.List, ast.Dict))]
+                self.assertFalse([node for node in inner if node is not value], name)
+            kept = {one for one, value in tops.items() if isinstance(value, (ast.List, ast.Dict))}
+            for node, around in with_parents(tree):
+                if isinstance(node, ast.Name) and node.id in kept and isinstance(node.ctx, ast.Load):
+                    read = isinstance(around, ast.Compare) or (isinstance(around, ast.Subscript)
+                                                               and isinstance(around.ctx, ast.Load))
+                    self.assertTrue(read, (name, node.lineno))
+                if isinstance(node, ast.alias):
+                    self.assertFalse(self.is_list_or_dict(node.name), (name, node.name))
+
+    def is_list_or_dict(self, wanted):
+        return any(isinstance(node, ast.Assign) and node.targets[0].id == wanted
+                   and isinstance(node.value, (ast.List, ast.Dict)) for _, tree in trees() for node in tree.body)
+
+    def test_names_of_python_are_called_and_walked_on_the_spot(self):
+        walkers = ("list", "tuple", "dict", "sorted", "sum", "any", "all", "enumerate", "zip")
+        keywords = {"sorted": {"key", "reverse"}, "min": {"key", "default"}, "max": {"key", "default"},
+                    "sum": {"start"}, "enumerate": {"start"}, "zip": {"strict"}}
+        for name, tree in trees():
+            for node, around in with_parents(tree):
+                at = (name, getattr(node, "lineno", 0))
+                if isinstance(node, ast.Name) and node.id in OWN_NAMES and not node.id.endswith("Error"):
+                    self.assertTrue(isinstance(around, ast.Call) and around.func is node, at)
+                if called(node) in ("zip", "enumerate", "reversed", "range"):
+                    on_the_spot = isinstance(around, (ast.For, ast.comprehension)) and around.iter is node
+                    self.assertTrue(on_the_spot or called(around) in walkers, at)
+                if called(node) == "set":
+                    self.assertTrue(called(around) in ("sorted", "len") or isinstance(around, ast.Compare), at)
+                if isinstance(node, ast.Call) and node.keywords:
+                    self.assertLessEqual({one.arg for one in node.keywords}, keywords.get(called(node), set()), at)
+
+    def test_classes_and_their_values(self):
+        classes, methods, values = set(), set(), set()
+        of_python = {one for kind in (str, int, list, tuple, dict, set, bytes) for one in dir(kind)}
+        for name, tree in trees():
+            for node in ast.walk(tree):
+                if isinstance(node, ast.ClassDef):
+                    classes.add(node.name)
+                    self.assertIn(node, tree.body)
+                    self.assertLessEqual(len(node.bases), 1)
+                    self.assertFalse(node.keywords or node.decorator_list)
+                    methods |= {one.name for one in node.body if isinstance(one, ast.FunctionDef)}
+                    for one in node.body[1:]:
+                        self.assertIsInstance(one, ast.FunctionDef, (name, one.lineno))
+                if isinstance(node, ast.Attribute) and isinstance(node.ctx, ast.Store):
+                    self.assertIsInstance(node.value, ast.Name, (name, node.lineno))
+                    self.assertNotIn(node.attr, of_python, (name, node.lineno))
+                    values.add(node.attr)
+        self.assertFalse(methods & values)
+        for name, tree in trees():
+            for node, around in with_parents(tree):
+                if isinstance(node, ast.Name) and node.id in classes:
+                    right = isinstance(around, (ast.Call, ast.ClassDef)) or isinstance(around, ast.Attribute)
+                    self.assertTrue(right, (name, node.lineno))
+                    if isinstance(around, ast.Attribute):
+                        self.assertEqual(around.attr, "__init__", (name, node.lineno))
+
+    def test_what_a_loop_walks_is_not_changed_in_it(self):
+        changing = ("append", "clear", "extend", "insert", "pop", "remove", "reverse", "setdefault", "update")
+        for name, tree in trees():
+            for loop in ast.walk(tree):
+                if not isinstance(loop, ast.For):
+                    continue
+                walked = {ast.dump(node) for node in ast.walk(loop.iter) if isinstance(node, (ast.Name, ast.Attribute))}
+                for node in [one for part in loop.body for one in ast.walk(part)]:
+                    if isinstance(node, ast.Call) and isinstance(node.func, ast.Attribute):
+                        if node.func.attr in changing:
+                            self.assertNotIn(ast.dump(node.func.value), walked, (name, node.lineno))
+                    if isinstance(node, ast.Subscript) and isinstance(node.ctx, ast.Store):
+                        self.assertNotIn(ast.dump(node.value), walked, (name, node.lineno))
+
+    def test_numbers_and_texts(self):
+        for name, tree in trees():
+            lambdas = [node.lineno for node in ast.walk(tree) if isinstance(node, ast.Lambda)]
+            self.assertEqual(len(lambdas), len(set(lambdas)), name)
+            for node in ast.walk(tree):
+                if isinstance(node, ast.Constant) and isinstance(node.value, str):
+                    self.assertNotIn("%", node.value, (name, node.lineno))
+                self.assertNotIsInstance(node, (ast.Pow, ast.JoinedStr, ast.Try, ast.Raise), name)

@@ -1,10 +1,12 @@
-"""The calls: each takes the state and the call's numbers, and gives back its answer."""
+"""The calls on the store: each takes the state and the call's numbers, and gives back its answer."""
 
 from rankedroom.bounds import Bounds
 from rankedroom.bounds import broken_bounds
 from rankedroom.bounds import fit
+from rankedroom.bounds import sizes_of_senders
 from rankedroom.bounds import sizes_up_to_ranks
 from rankedroom.bounds import whole_size
+from rankedroom.choosing import cheapest_choice
 from rankedroom.refusals import ALREADY_ENDED
 from rankedroom.refusals import ALREADY_THERE
 from rankedroom.refusals import BEYOND_BOUNDS
@@ -13,16 +15,21 @@ from rankedroom.refusals import NOT_REFUSED
 from rankedroom.refusals import NOT_THERE
 from rankedroom.refusals import OUT_OF_RANGE
 from rankedroom.refusals import STORE_FULL
+from rankedroom.refusals import TOO_MANY_MAY_GO
 from rankedroom.refusals import in_ranges
 from rankedroom.state import find_thing
 from rankedroom.state import let_go
 from rankedroom.state import put_in
+from rankedroom.state import start_anew
 from rankedroom.taking import gone_for
+from rankedroom.taking import greatest_size
 from rankedroom.taking import is_taken
+from rankedroom.taking import may_go
 from rankedroom.taking import may_not_go
 from rankedroom.things import THING_RANGES
 from rankedroom.things import Thing
 from rankedroom.things import tell_things
+from rankedroom.things import whole_worth
 
 MOST_THINGS = 40
 LAST_MOMENT = 100000
@@ -32,6 +39,11 @@ LIMIT_RANGES = ((0, 200), (0, 200), (0, 200), (0, 200), (0, 200),
 NUMBER_RANGE = ((0, 999),)
 BIND_RANGES = ((0, 999), (0, 1))
 TICK_RANGE = ((0, 1000),)
+GREATEST_RANGES = ((0, 9), (1, 100000), (0, 7))
+GOES_RANGE = ((0, 200),)
+LASTS_RANGE = ((0, 100000),)
+SURE_RANGE = ((0, 9),)
+MOST_TO_CHOOSE = 12
 
 
 def change_bounds(state, bounds):
@@ -227,13 +239,75 @@ def used_call(state, numbers):
     return answer + sizes_up_to_ranks(state.things)
 
 
-CALLS = (room_call, limits_call, share_call, arrive_call, would_call, why_call, drop_call, bind_call,
-         promise_call, fulfil_call, cancel_call, tick_call, items_call, item_call, used_call)
+def greatest_call(state, numbers):
+    """Call 15."""
+    if not in_ranges(numbers, GREATEST_RANGES):
+        return [OUT_OF_RANGE]
+    if numbers[1] <= state.moment:
+        return [0]
+    return [greatest_size(state.bounds, state.things, numbers[0], numbers[1], numbers[2])]
 
 
-def answer_call(state, number, numbers):
-    """The answer to one call, by its number."""
-    if number >= len(CALLS):
-        raise NotImplementedError(f"call {number} is not built yet")
-    call = CALLS[number]
+def goes_call(state, numbers):
+    """Call 16."""
+    if not in_ranges(numbers, GOES_RANGE):
+        return [OUT_OF_RANGE]
+    going = []
+    for thing in reversed(state.things):
+        if not thing.bound and whole_size(going) < numbers[0]:
+            going.append(thing)
+    return tell_things(going)
+
+
+def lasts_call(state, numbers):
+    """Call 23."""
+    if not in_ranges(numbers, LASTS_RANGE):
+        return [OUT_OF_RANGE]
+    return tell_things([thing for thing in state.things if thing.end <= numbers[0]])
+
+
+def senders_call(state, numbers):
+    """Call 24."""
+    return sizes_of_senders(state.things)
+
+
+def sure_call(state, numbers):
+    """Call 26."""
+    if not in_ranges(numbers, SURE_RANGE):
+        return [OUT_OF_RANGE]
+    rank = numbers[0]
+    if rank == 0:
+        return [0]
+    return [max(0, state.bounds.room - state.bounds.limits[rank - 1])]
+
+
+def cheapest_call(state, numbers):
+    """Call 27."""
+    refusal = refusal_of_new(state, numbers)
+    if refusal != NOT_REFUSED:
+        return [refusal]
+    thing = Thing(numbers)
+    if len(may_go(state.things, thing)) > MOST_TO_CHOOSE:
+        return [TOO_MANY_MAY_GO]
+    if not is_taken(state.bounds, state.things, thing):
+        return [0]
+    chosen = cheapest_choice(state.bounds, state.things, thing)
+    return [1, whole_worth(chosen)] + tell_things(chosen)
+
+
+def clear_call(state, numbers):
+    """Call 29."""
+    start_anew(state)
+    return [0]
+
+
+STORE_CALLS = {0: room_call, 1: limits_call, 2: share_call, 3: arrive_call, 4: would_call, 5: why_call, 6: drop_call,
+               7: bind_call, 8: promise_call, 9: fulfil_call, 10: cancel_call, 11: tick_call, 12: items_call,
+               13: item_call, 14: used_call, 15: greatest_call, 16: goes_call, 23: lasts_call, 24: senders_call,
+               26: sure_call, 27: cheapest_call, 29: clear_call}
+
+
+def answer_store_call(state, number, numbers):
+    """The answer to one of these calls, by its number."""
+    call = STORE_CALLS[number]
     return call(state, numbers)
